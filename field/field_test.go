@@ -102,7 +102,7 @@ func TestLeastIsTheLeast(t *testing.T) {
 func TestPut(t *testing.T) {
 	const n = 0x0102030405060708
 	all := []byte{1, 2, 3, 4, 5, 6, 7, 8}
-	for _, many := range []int{math.MinInt, math.MinInt/8 + 1, -8, -1, 0, 1, 2, 3, 4, 5, 6, 7, 8, 9, 64, 1 << 40, math.MaxInt} {
+	for _, many := range []int{math.MinInt, math.MinInt/8 + 1, -8, -1, 0, 1, 2, 3, 4, 5, 6, 7, 8, 9, 64, 1 << 20, math.MaxInt} {
 		for _, b := range [][]byte{nil, {}, {9}, {9, 0, 255}} {
 			want := append(slices.Clone(b), all[8-min(max(many, 0), 8):]...)
 			if got := field.Put(b, n, many); !bytes.Equal(got, want) {
